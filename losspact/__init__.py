@@ -1,0 +1,1 @@
+"""Losspact: hands that agree over a road that loses letters."""
