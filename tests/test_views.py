@@ -5,61 +5,11 @@ import inspect
 import itertools
 import unittest
 
+from by_words import FOUR, THREE, TWO, runs_of, same_by_letters, view_by_spots
 from losspact.views import alike, came_to, cut_to, view
 
 SIXTY = 10 ** 60 - 1
 
-
-def spots_heard(run, hand, rounds):
-    """The spots (hand, rounds) that a spot hears, by the words of point 7."""
-    heard = {(hand, rounds)}
-    if rounds > 0:
-        heard |= spots_heard(run, hand, rounds - 1)
-        for start in range(len(run[0])):
-            if start != hand and (start, hand) not in run[1][rounds - 1]:
-                heard |= spots_heard(run, start, rounds - 1)
-    return heard
-
-
-def view_by_spots(run, hand):
-    values, weathers = run
-    hands = range(len(values))
-    heard = spots_heard(run, hand, len(weathers))
-    return (
-        hand,
-        tuple(values[other] if (other, 0) in heard else None for other in hands),
-        tuple(
-            tuple(
-                tuple(start for start in hands if start != goal and (start, goal) not in weather)
-                if (goal, rounds) in heard else None
-                for goal in hands
-            )
-            for rounds, weather in enumerate(weathers, start=1)
-        ),
-    )
-
-
-def same_by_letters(one, other, hand, rounds):
-    """Whether two runs look the same to a hand behind so many rounds, by the words of point 8."""
-    if one[0][hand] != other[0][hand]:
-        return False
-    for place in range(rounds):
-        starts = [start for start in range(len(one[0])) if start != hand and (start, hand) not in one[1][place]]
-        others = [start for start in range(len(one[0])) if start != hand and (start, hand) not in other[1][place]]
-        if starts != others:
-            return False
-        if not all(same_by_letters(one, other, start, place) for start in starts):
-            return False
-    return True
-
-
-def runs_of(starts, road, rounds):
-    return [(values, weathers) for values in starts for weathers in itertools.product(road, repeat=rounds)]
-
-
-TWO = [(), ((0, 1),), ((1, 0),), ((0, 1), (1, 0))]
-THREE = [(), ((0, 1), (0, 2)), ((1, 0), (2, 0)), ((0, 1), (1, 2), (2, 0))]
-FOUR = [((0, 1), (0, 2), (0, 3)), ((1, 0), (2, 0), (3, 0), (3, 1)), ((0, 3), (1, 2), (2, 1), (3, 0))]
 RUNS = [
     *(run for rounds in range(4) for run in runs_of([(0, 0), (0, 1), (1, 1)], TWO, rounds)),
     *(run for rounds in range(4) for run in runs_of([(0, 0, 0), (0, 1, 2)], THREE, rounds)),
