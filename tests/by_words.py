@@ -79,19 +79,79 @@ def parts_of(runs):
 
 @functools.cache
 def kept_parts(runs):
+    return parts_by_steps(len(runs), lambda one, other: joined(runs[one], runs[other]))
+
+
+def parts_by_steps(many, are_joined):
+    """The parts of the numbers below many."""
     # Steps are added till none leads out of the part.
     parts = []
-    for number in range(len(runs)):
+    for number in range(many):
         if not any(number in part for part in parts):
             part, wave = {number}, {number}
             while wave:
                 wave = {
-                    other for other in range(len(runs))
-                    if other not in part and any(joined(runs[one], runs[other]) for one in wave)
+                    other for other in range(many)
+                    if other not in part and any(are_joined(one, other) for one in wave)
                 }
                 part |= wave
             parts.append(sorted(part))
     return parts
+
+
+def rows_of(road, rounds):
+    return list(itertools.product(road, repeat=rounds))
+
+
+def came_by_spots(hands, row, hand):
+    return view_by_spots(((0,) * hands, row), hand)[2]
+
+
+def rows_parts_of(hands, rows):
+    """The parts of all rows of weathers of a road, by the words of point 16."""
+    came = [[came_by_spots(hands, row, hand) for hand in range(hands)] for row in rows]
+    return parts_by_steps(
+        len(rows), lambda one, other: any(came[one][hand] == came[other][hand] for hand in range(hands)),
+    )
+
+
+def callers_of_rows(hands, rows):
+    """The callers of a part of the rows of weathers, by the words of point 16."""
+    return [
+        caller for caller in range(hands)
+        if all((caller, 0) in spots_heard(((0,) * hands, row), hand, len(row)) for row in rows for hand in range(hands))
+    ]
+
+
+def cut(run, rounds):
+    return (run[0], tuple(run[1][place] for place in range(rounds)))
+
+
+def settled_by_words(runs, table, number, hand):
+    """The first number of rounds behind which a hand is settled in a run, by the words of point 17."""
+    own = runs[number]
+    for rounds in range(len(own[1]) + 1):
+        same = [run for run in runs if same_by_letters(cut(run, rounds), cut(own, rounds), hand, rounds)]
+        if len({value_of(run, table) for run in same}) == 1:
+            return rounds
+    return None
+
+
+def value_of(run, table):
+    values = {table[view_by_spots(run, hand)] for hand in range(len(run[0]))}
+    assert len(values) == 1, "the table doesn't serve"
+    return values.pop()
+
+
+def serving_table(runs, shift):
+    """A table that serves, with values that the shift picks out of those that each part lets choose."""
+    table = {}
+    for place, part in enumerate(parts_of(runs)):
+        common = sorted(set.intersection(*(set(runs[number][0]) for number in part)))
+        for number in part:
+            for hand in range(len(runs[number][0])):
+                table[view_by_spots(runs[number], hand)] = common[(place * shift + shift) % len(common)]
+    return table
 
 
 def common_value(runs):

@@ -112,6 +112,26 @@ class LanguageTest(unittest.TestCase):
                 if isinstance(node, ast.Call) and isinstance(node.func, ast.Attribute):
                     self.assertIn(node.func.attr, own | set(METHODS), (path, node.lineno))
 
+    def test_values_of_objects(self):
+        classes = [node for path in FILES for node in ast.walk(tree_of(path)) if isinstance(node, ast.ClassDef)]
+        methods = {node.name for found in classes for node in found.body if isinstance(node, ast.FunctionDef)}
+        taken = METHODS + ["add", "args", "encode", "format", "sort"]
+        for path in FILES:
+            for node in ast.walk(tree_of(path)):
+                if isinstance(node, ast.Attribute) and isinstance(node.ctx, ast.Store):
+                    self.assertNotIn(node.attr, methods, (path, node.lineno))
+                    self.assertNotIn(node.attr, taken, (path, node.lineno))
+
+    def test_no_local_is_called_like_an_import(self):
+        for path in FILES:
+            tree = tree_of(path)
+            drawn = {name.name for node in ast.walk(tree) if isinstance(node, ast.ImportFrom) for name in node.names}
+            for node in ast.walk(tree):
+                if isinstance(node, ast.arg):
+                    self.assertNotIn(node.arg, drawn, (path, node.lineno))
+                if isinstance(node, ast.Name) and isinstance(node.ctx, ast.Store):
+                    self.assertNotIn(node.id, drawn, (path, node.lineno))
+
 
 if __name__ == "__main__":
     unittest.main()
